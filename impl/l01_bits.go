@@ -103,6 +103,12 @@ func (w *bitWriter) putBit(bit int) {
 	w.count++
 }
 
+func (w *bitWriter) putCode(value int, n int) {
+	for i := n - 1; i >= 0; i-- {
+		w.putBit(value >> i & 1)
+	}
+}
+
 func canPut(w Out, value int, n int) bool {
 	if !OutOk(w) || n < 0 || n > MaxTake {
 		return false
@@ -126,9 +132,7 @@ func PutCode(w Out, value int, n int) (Out, bool) {
 		return Out{}, false
 	}
 	more := newBitWriter(w)
-	for i := n - 1; i >= 0; i-- {
-		more.putBit(value >> i & 1)
-	}
+	more.putCode(value, n)
 	return more.out(), true
 }
 
