@@ -103,6 +103,12 @@ func (w *bitWriter) putBit(bit int) {
 	w.count++
 }
 
+func (w *bitWriter) putNumber(value int, n int) {
+	for i := range n {
+		w.putBit(value >> i & 1)
+	}
+}
+
 func (w *bitWriter) putCode(value int, n int) {
 	for i := n - 1; i >= 0; i-- {
 		w.putBit(value >> i & 1)
@@ -121,9 +127,7 @@ func PutBits(w Out, value int, n int) (Out, bool) {
 		return Out{}, false
 	}
 	more := newBitWriter(w)
-	for i := range n {
-		more.putBit(value >> i & 1)
-	}
+	more.putNumber(value, n)
 	return more.out(), true
 }
 
